@@ -1,0 +1,1 @@
+"""Running totals by nets of joins, right for all joins."""
