@@ -52,3 +52,14 @@ def wire_forms(net, kind):
     if kind == "even":
         return counts
     return [tuple([many % kind for many in row]) for row in counts]
+
+
+def stretch_form(places, stretch, kind):
+    """The form of the stretch's word, for nets of so many places."""
+    first, last = stretch
+    if kind == "ends":
+        return stretch
+    if kind in ("any", "first", "last", "sets"):
+        return tuple(range(first, last + 1))
+    # Each place comes once or not at all, which is its own rest by each number from 2 on.
+    return tuple([int(first <= place <= last) for place in range(places)])

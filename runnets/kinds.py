@@ -3,16 +3,15 @@
 from runnets.errors import InvalidKind, InvalidNet, TooLong
 from runnets.forms import wire_forms
 from runnets.nets import check_net, check_wire, is_net
-from runnets.plain import is_whole
 from runnets.wires import LONGEST_WORD, wire_lengths
 
-NAMED_KINDS = ("any", "even", "first", "last", "sets", "ends")
+KINDS = ("any", "even", 2, 3, 4, 5, 6, 7, 8, "first", "last", "sets", "ends")
 
 
 def is_kind(value):
     """Whether it is a kind, whatever it is."""
-    # Only texts are compared with the names: other things may refuse to be compared.
-    return is_whole(value, 2, 8) or (type(value) is str and value in NAMED_KINDS)
+    # Only numbers and texts are compared with the kinds: other things may refuse to be compared.
+    return type(value) in (int, str) and value in KINDS
 
 
 def check_kind(kind):

@@ -1,6 +1,6 @@
 """Nets: their wires, depths and words, and which boxes rest on which."""
 
-from runnets.errors import InvalidNet, InvalidWire, TooLong
+from runnets.errors import InvalidNet, InvalidNumber, InvalidWire, TooLong
 from runnets.plain import is_row, is_whole
 from runnets.wires import LONGEST_WORD, boxes_under, short_words, wire_depths, wire_lengths, wire_stretches
 
@@ -39,6 +39,12 @@ def check_wire(net, wire):
     """Raise InvalidWire for no wire of the net, which is a right one."""
     if not are_wires((wire,), net[0] + len(net[1])):
         raise InvalidWire(wire)
+
+
+def check_places(places):
+    """Raise InvalidNumber for no number of places that nets have."""
+    if not is_whole(places, 1, MOST_PLACES):
+        raise InvalidNumber(places)
 
 
 def joins_of(net):

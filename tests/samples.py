@@ -111,6 +111,31 @@ def rests(net, wire, box):
     return wire == places + box or any([rests(net, below, box) for below in boxes[wire - places]])
 
 
+def form(held, places, kind):
+    """The form of a word, told from the word as the document tells it."""
+    if kind == "any":
+        return held
+    if kind == "even":
+        return tuple([held.count(place) for place in range(places)])
+    if kind == "first":
+        return tuple(sorted(set(held), key=held.index))
+    if kind == "last":
+        return tuple(sorted(set(held), key=lambda place: -held[::-1].index(place)))
+    if kind == "sets":
+        return tuple(sorted(set(held)))
+    if kind == "ends":
+        return (held[0], held[-1])
+    return tuple([held.count(place) % kind for place in range(places)])
+
+
+def total(held, row, join):
+    """What a word comes to on a row of worths."""
+    found = row[held[0]]
+    for place in held[1:]:
+        found = join(found, row[place])
+    return found
+
+
 class Odd:
     """A thing that refuses to be compared, measured, hashed or tested."""
 

@@ -6,35 +6,10 @@ from runnets import kinds
 from runnets.errors import InvalidKind, InvalidNet, InvalidWire, TooLong
 from runnets.kinds import are_alike, form_of, is_kind, unlike_end
 from tests.samples import (ALIKE, BACK, BARE, CHAIN, CROSSED, DOUBLING, FOUR, KINDS, OTHERS, PAIR, SHOWN, THREE, TWICE,
-                           WIDE, WRONG_KINDS, WRONG_NETS, Odd, caught, doubled, drawn_nets, ladder_nets, small_nets,
-                           wires, word)
+                           WIDE, WRONG_KINDS, WRONG_NETS, Odd, caught, doubled, drawn_nets, form, ladder_nets,
+                           small_nets, total, wires, word)
 
 BIG = 2 ** 60
-
-
-def form(held, places, kind):
-    """The form of a word, told from the word as the document tells it."""
-    if kind == "any":
-        return held
-    if kind == "even":
-        return tuple([held.count(place) for place in range(places)])
-    if kind == "first":
-        return tuple(sorted(set(held), key=held.index))
-    if kind == "last":
-        return tuple(sorted(set(held), key=lambda place: -held[::-1].index(place)))
-    if kind == "sets":
-        return tuple(sorted(set(held)))
-    if kind == "ends":
-        return (held[0], held[-1])
-    return tuple([held.count(place) % kind for place in range(places)])
-
-
-def total(held, row, join):
-    """What a word comes to on a row of worths."""
-    found = row[held[0]]
-    for place in held[1:]:
-        found = join(found, row[place])
-    return found
 
 
 # For each kind joins of it and the worths that part all unlike forms of words of few places.

@@ -78,6 +78,28 @@ class Code(unittest.TestCase):
                 known = node.arg if isinstance(node, ast.arg) else node.name
                 self.assertNotIn(known, BUILTINS | BARRED, name)
 
+    def test_imported_names_mean_nothing_else(self):
+        for name in files():
+            nodes = list(ast.walk(ast.parse(text_of(name))))
+            brought = {held.name for node in nodes if isinstance(node, ast.ImportFrom) for held in node.names}
+            bound = {node.id for node in nodes if isinstance(node, ast.Name) and isinstance(node.ctx, ast.Store)}
+            bound |= {node.arg for node in nodes if isinstance(node, ast.arg)}
+            bound |= {node.name for node in nodes if isinstance(node, (ast.FunctionDef, ast.ClassDef))}
+            self.assertEqual(brought & bound, set(), name)
+
+    def test_no_two_files_import_from_each_other(self):
+        ahead = {}
+        for name in files():
+            found = [node for node in ast.parse(text_of(name)).body if isinstance(node, ast.ImportFrom)]
+            ahead[name[:-3]] = {node.module.split(".")[1] for node in found if node.module.startswith("runnets.")}
+        while ahead:
+            free = [name for name in ahead if not ahead[name]]
+            self.assertTrue(free, ahead)
+            for name in free:
+                del ahead[name]
+            for name in ahead:
+                ahead[name] -= set(free)
+
 
 if __name__ == "__main__":
     unittest.main()
