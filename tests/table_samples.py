@@ -3,7 +3,7 @@
 import random
 from itertools import product
 
-from tests.samples import KINDS, OTHERS, PAIR, WRONG_NETS, Odd, caught
+from tests.samples import KINDS, OTHERS, PAIR, WRONG_KINDS, WRONG_NETS, Odd, caught
 
 GREATER, ODD = ((0, 1), (1, 1)), ((0, 1), (1, 0))
 AFTER, NEITHER = ((0, 1, 2), (1, 1, 2), (2, 1, 2)), ((1, 0), (0, 0))
@@ -152,9 +152,30 @@ WRONG_WISHES += [(0, ((0, 2), (0, 1))), (1, ((0, 0), (0, 2))), (0, ((1, 0), (1, 
 
 WRONG_PLACES = [*OTHERS, 0, 13, -1, 24, 10 ** 399, -10 ** 399, (), (1,), [1], "1", PAIR]
 
+# For the net PAIR and others of two places and one box.
+WRONG_FAULTS = [
+    *OTHERS, 0, 1, 2, -1, "first", "turned", (), (0,), (1,), ("first",), (0, "first", 0, 0), (0, 0, 0, 0), ((0, "first"),),
+    # the box: out of bounds, or no whole number
+    (1, "first"), (-1, "first"), (2, "turned"), (10 ** 399, "second"), (True, "first"), (False, "first"), (None, "turned"),
+    ("0", "first"), ("first", 0), ((0,), "first"), ([0], "turned"), (Odd(), "first"), (1j, "second"), (b"", "first"),
+    (1, 0, 0), (-1, 0, 0), (2, 1, 1), (True, 0, 0), (False, 0, 0), (None, 0, 0), ("0", 0, 0), ((0,), 1, 0), (Odd(), 1, 1),
+    # the way: another word, or none at all
+    (0, "third"), (0, "First"), (0, "first "), (0, ""), (0, "f"), (0, "turn"), (0, "sets"), (0, b"first"), (0, None), (0, 0),
+    (0, 1), (0, True), (0, ("first",)), (0, ["first"]), (0, {}), (0, Odd()), (0, str), (0, ("first", "second", "turned")),
+    # the side
+    (0, 2, 0), (0, -1, 0), (0, 10 ** 399, 1), (0, True, 0), (0, False, 1), (0, None, 0), (0, "0", 0), (0, "first", 0),
+    (0, "turned", 1), (0, (0,), 0), (0, [1], 0), (0, Odd(), 0), (0, 1j, 0),
+    # the wire: the box's own, later ones, none at all
+    (0, 0, 2), (0, 1, 2), (0, 0, 3), (0, 1, 3), (0, 0, -1), (0, 1, -2), (0, 1, 10 ** 399), (0, 0, True), (0, 0, False),
+    (0, 1, None), (0, 0, "0"), (0, 0, (0,)), (0, 1, [1]), (0, 0, Odd()), (0, 0, "first"), (0, 1, 1j),
+    # lists in the place of tuples
+    [0, "first"], [0, 0, 0], [0, 1, 1], ([0, "first"],), [(0, "first")],
+]
+
 # By the name of a parameter: wrong values for it, and its error's attribute.
-WRONG_WHOLE = {"net": WRONG_NETS, "table": WRONG_TABLES, "places": WRONG_PLACES}
-WRONG_INDEXED = {"wishes": WRONG_WISHES, "worths": WRONG_ROWS, "marks": WRONG_ROWS}
+WRONG_WHOLE = {"net": WRONG_NETS, "table": WRONG_TABLES, "places": WRONG_PLACES, "fault": WRONG_FAULTS,
+               "kind": WRONG_KINDS}
+WRONG_INDEXED = {"wishes": WRONG_WISHES, "worths": WRONG_ROWS, "marks": WRONG_ROWS, "one": WRONG_ROWS, "two": WRONG_ROWS}
 
 
 def check_errors(case, call, right, errors, more=()):
