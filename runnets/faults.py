@@ -14,8 +14,9 @@ def is_fault(net, value):
     if not is_row(value, 2, 3) or not is_whole(value[0], 0, len(boxes) - 1):
         return False
     if len(value) == 2:
+        way = value[1]
         # Only texts are compared with the ways: other things may refuse to be compared.
-        return type(value[1]) is str and value[1] in WAYS
+        return type(way) is str and way in WAYS
     box, side, wire = value
     return is_whole(side, 0, 1) and is_whole(wire, 0, places + box - 1)
 

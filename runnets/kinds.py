@@ -41,8 +41,8 @@ def form_of(net, wire, kind):
     return wire_forms(net, kind)[wire]
 
 
-def unlike_end(net, other, kind):
-    """The least index of an end at which both have unlike forms; None. Last TooLong for "any"."""
+def unlike_ends(net, other, kind):
+    """The indexes of the ends at which both have unlike forms, ascending. Last TooLong for "any"."""
     check_net(net)
     check_other(net, other)
     check_kind(kind)
@@ -53,10 +53,13 @@ def unlike_end(net, other, kind):
         check_short(here[one], kind)
         check_short(there[two], kind)
     these, those = wire_forms(net, kind), wire_forms(other, kind)
-    for index, (one, two) in enumerate(pairs):
-        if these[one] != those[two]:
-            return index
-    return None
+    return tuple([index for index, (one, two) in enumerate(pairs) if these[one] != those[two]])
+
+
+def unlike_end(net, other, kind):
+    """The least index of an end at which both have unlike forms; None. Last TooLong for "any"."""
+    unlike = unlike_ends(net, other, kind)
+    return unlike[0] if unlike else None
 
 
 def are_alike(net, other, kind):

@@ -9,11 +9,17 @@ def triples_of(table):
     return [(x, y, z) for x in worths for y in worths for z in worths]
 
 
+def is_unlike(table, triple):
+    """Whether both ways to bracket the triple of worths tell unlike ones."""
+    x, y, z = triple
+    return table[table[x][y]][z] != table[x][table[y][z]]
+
+
 def unlike_triple(table):
-    """The least triple of worths for which both ways to bracket it tell unlike worths; None."""
-    for x, y, z in triples_of(table):
-        if table[table[x][y]][z] != table[x][table[y][z]]:
-            return (x, y, z)
+    """The least triple of worths for which both ways to bracket it tell unlike ones; None."""
+    for triple in triples_of(table):
+        if is_unlike(table, triple):
+            return triple
     return None
 
 

@@ -1,7 +1,7 @@
 """Tables: which are joins and of which kinds, runs of nets on them, and plain totals."""
 
 from runnets.errors import InvalidTable, InvalidWorths
-from runnets.kinds import KINDS
+from runnets.kinds import KINDS, check_kind
 from runnets.nets import MOST_PLACES, check_net
 from runnets.plain import is_row, is_whole
 from runnets.rules import has_kind, unlike_triple
@@ -44,6 +44,13 @@ def breaking_triple(table):
     """A triple (x, y, z) of worths with (x y) z and x (y z) unlike; None."""
     check_table(table)
     return unlike_triple(table)
+
+
+def is_of_kind(table, kind):
+    """Whether the table has the kind; no table that is no join has any."""
+    check_table(table)
+    check_kind(kind)
+    return unlike_triple(table) is None and has_kind(table, kind)
 
 
 def kinds_of(table):

@@ -172,9 +172,17 @@ WRONG_FAULTS = [
     [0, "first"], [0, 0, 0], [0, 1, 1], ([0, "first"],), [(0, "first")],
 ]
 
+WRONG_DEPTHS = [*OTHERS, -1, 61, 100, 10 ** 399, -10 ** 399, (), (0,), [1], "0", PAIR]
+WRONG_NAMES = [*OTHERS, 0, 1, "rows", "Row", "ROW", "row ", " row", "half", "double", "pair", "halve", "o", "any",
+               (), ("row",), ["row"], {"row"}, b"row", PAIR]
+
+# Beside the net PAIR: no nets, and those with other places or another number of ends.
+WRONG_BESIDE = [*WRONG_NETS, (3, ((0, 1),), (0, 2)), (1, (), (0, 0)), (2, ((0, 1),), (0,)), (2, ((0, 1),), (0, 2, 2))]
+
 # By the name of a parameter: wrong values for it, and its error's attribute.
-WRONG_WHOLE = {"net": WRONG_NETS, "table": WRONG_TABLES, "places": WRONG_PLACES, "fault": WRONG_FAULTS,
-               "kind": WRONG_KINDS}
+WRONG_WHOLE = {"net": WRONG_NETS, "other": WRONG_BESIDE, "table": WRONG_TABLES, "places": WRONG_PLACES, "fault": WRONG_FAULTS,
+               "kind": WRONG_KINDS, "left": WRONG_DEPTHS, "height": WRONG_DEPTHS, "depth": WRONG_DEPTHS,
+               "name": WRONG_NAMES}
 WRONG_INDEXED = {"wishes": WRONG_WISHES, "worths": WRONG_ROWS, "marks": WRONG_ROWS, "one": WRONG_ROWS, "two": WRONG_ROWS}
 
 
